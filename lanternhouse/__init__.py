@@ -1,0 +1,1 @@
+"""Lanternhouse: houses whose doors let hands pass by colour."""

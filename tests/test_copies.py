@@ -1,0 +1,193 @@
+"""Point 2: nothing that is passed is changed, and nothing is remembered."""
+
+import copy
+import unittest
+
+from lanternhouse import deeds, house, lamps, meeting, mirror, notation, papers, reach, standing
+from lanternhouse.deeds import Run
+from lanternhouse.house import House
+from lanternhouse.standing import Standing
+
+from support import plain
+
+DOORS = [[0, 1, "RRB"], [1, 2, "RB"], [2, 0, "RBB"], [2, 3, "RB"]]
+HANDS = [["R", 0], ["B", 3], ["R", 1]]
+# The lights are R, B, B and R for the live standing, B, B, B and R for the dead one.
+LIVE_PLACES = [0, 1, 1, 0]
+DEAD_PLACES = [2, 1, 1, 0]
+
+RING = House(4, DOORS)
+LIVE = Standing([["R", 0], ["B", 3], ["R", 2]], LIVE_PLACES)
+DEAD = Standing([["R", 0], ["B", 3]], DEAD_PLACES)
+TREE = House(3, [[0, 1, "RB"], [1, 2, "RB"]])
+TREE_DEAD = Standing([["R", 0], ["B", 2]], [1, 0])
+WALK = Run([[0, 0], [0, 0]])
+
+# Each function of the interface with arguments that it answers.
+CALLS = [
+    (house.doors_at, [RING, 2]),
+    (house.other_end, [RING, 3, 3]),
+    (house.longest_cycle, [RING]),
+    (house.is_odd, [RING]),
+    (house.is_even, [RING]),
+    (house.is_strict, [RING]),
+    (house.is_tree, [RING]),
+    (house.is_swift, [RING]),
+    (standing.fits, [RING, LIVE]),
+    (standing.light_of, [RING, LIVE, 1]),
+    (standing.last_light_of, [RING, LIVE, 1]),
+    (standing.hands_in, [RING, LIVE, 2]),
+    (standing.census_of, [RING, LIVE]),
+    (deeds.can_do, [RING, LIVE, 0, 0]),
+    (deeds.do, [RING, LIVE, 0, 0]),
+    (deeds.possible_deeds, [RING, LIVE]),
+    (deeds.replay, [RING, LIVE, WALK]),
+    (deeds.course, [RING, LIVE, WALK]),
+    (deeds.passes_of, [RING, WALK]),
+    (mirror.turned_house, [RING]),
+    (mirror.turned_standing, [RING, LIVE]),
+    (mirror.recoloured_house, [RING]),
+    (mirror.recoloured_standing, [RING, LIVE]),
+    (notation.format_house, [RING]),
+    (notation.format_standing, [LIVE]),
+    (notation.format_run, [WALK]),
+    (notation.parse_house, ["rooms 2 trades RB\ndoor 0 1 RB"]),
+    (notation.parse_standing, ["hands R0 places 1"]),
+    (notation.parse_run, ["0:1 1:0"]),
+    (reach.spread_of, [RING, LIVE, "R"]),
+    (reach.is_live, [RING, LIVE]),
+    (reach.is_rooted, [RING, LIVE]),
+    (reach.meeting_rooms, [RING, LIVE]),
+    (reach.root_rooms, [RING, LIVE]),
+    (reach.safe_deeds, [RING, LIVE]),
+    (papers.is_paper, [TREE, TREE_DEAD, [[0, 0], [2]]]),
+    (papers.least_paper, [TREE, TREE_DEAD]),
+    (papers.greatest_paper, [TREE, TREE_DEAD]),
+    (papers.join_papers, [[[3, 1, 1], [2]], [[0], [2, 5, 5]]]),
+    (papers.meet_papers, [[[3, 1, 1], [2]], [[0, 3], [2, 5, 5]]]),
+    (papers.count_papers, [TREE, TREE_DEAD]),
+    (papers.closed_rooms, [TREE, TREE_DEAD]),
+    (meeting.meeting_distance, [RING, LIVE]),
+    (meeting.first_meeting, [RING, LIVE]),
+    (lamps.change_lamps, [RING, LIVE, [3, 0, 3]]),
+    (lamps.quicken, [RING, DEAD]),
+    (lamps.closeness, [RING, DEAD]),
+    (lamps.killing_lamps, [RING, DEAD]),
+]
+
+
+def as_tuples(value):
+    """Turn lists into tuples, inner ones too."""
+    return tuple([as_tuples(part) for part in value]) if isinstance(value, (list, tuple)) else value
+
+
+def as_lists(value):
+    """Turn tuples into lists, inner ones too."""
+    return [as_lists(part) for part in value] if isinstance(value, (list, tuple)) else value
+
+
+def spoil(value):
+    """Change every list in the value, the inner ones first."""
+    if isinstance(value, (list, tuple)):
+        for part in value:
+            spoil(part)
+    if isinstance(value, list):
+        value.reverse()
+        value.append("spoilt")
+
+
+class Answers(unittest.TestCase):
+
+    def test_the_same_answer_after_the_returned_lists_are_changed(self):
+        for function, arguments in CALLS:
+            answer = function(*arguments)
+            wanted = copy.deepcopy(plain(answer))
+            spoil(answer)
+            self.assertEqual(plain(function(*arguments)), wanted, function.__name__)
+
+    def test_what_is_passed_is_as_it_was(self):
+        for function, arguments in CALLS:
+            before = copy.deepcopy(plain(arguments))
+            spoil(function(*arguments))
+            self.assertEqual(plain(arguments), before, function.__name__)
+
+    def test_the_lists_that_are_passed_are_changed_afterwards(self):
+        for function, arguments in CALLS:
+            passed = [as_lists(argument) for argument in arguments]
+            answer = function(*passed)
+            wanted = copy.deepcopy(plain(answer))
+            spoil(passed)
+            self.assertEqual(plain(answer), wanted, function.__name__)
+            self.assertEqual(plain(function(*arguments)), wanted, function.__name__)
+
+    def test_lists_and_tuples(self):
+        for function, arguments in CALLS:
+            wanted = plain(function(*arguments))
+            for change in (as_lists, as_tuples):
+                changed = [change(argument) for argument in arguments]
+                self.assertEqual(plain(function(*changed)), wanted, function.__name__)
+
+    def test_another_house_that_is_asked_in_between(self):
+        other = House(4, [[0, 1, "BR"], [1, 2, "BR"], [2, 0, "BBR"], [2, 3, "BR"]])
+        there = Standing([["B", 0], ["B", 0], ["R", 1]], [1, 0, 0, 0])
+        for function, arguments in CALLS:
+            wanted = plain(function(*arguments))
+            changed = [other if part is RING else there if part in (LIVE, DEAD) else part for part in arguments]
+            if function is not deeds.replay and function is not deeds.course and function is not deeds.do:
+                function(*changed)
+            deeds.possible_deeds(other, there)
+            reach.meeting_rooms(other, there)
+            self.assertEqual(plain(function(*arguments)), wanted, function.__name__)
+
+    def test_all_calls_one_after_the_other_and_back(self):
+        wanted = [plain(function(*arguments)) for function, arguments in CALLS]
+        back = [plain(function(*arguments)) for function, arguments in CALLS[::-1]]
+        self.assertEqual(back[::-1], wanted)
+
+
+class Objects(unittest.TestCase):
+
+    def test_a_house_keeps_copies(self):
+        doors = copy.deepcopy(DOORS)
+        made = House(4, doors)
+        spoil(doors)
+        self.assertEqual(made.doors, as_tuples(DOORS))
+
+    def test_a_standing_keeps_copies(self):
+        hands, places = copy.deepcopy(HANDS), list(LIVE_PLACES)
+        made = Standing(hands, places)
+        spoil(hands)
+        spoil(places)
+        self.assertEqual((made.hands, made.places), (as_tuples(HANDS), tuple(LIVE_PLACES)))
+
+    def test_a_run_keeps_copies(self):
+        told = [[0, 1], [2, 3]]
+        made = Run(told)
+        spoil(told)
+        self.assertEqual(made.deeds, ((0, 1), (2, 3)))
+
+    def test_objects_take_lists_and_tuples(self):
+        for change in (as_lists, as_tuples):
+            self.assertEqual(House(4, change(DOORS)).doors, as_tuples(DOORS))
+            made = Standing(change(HANDS), change(LIVE_PLACES))
+            self.assertEqual((made.hands, made.places), (as_tuples(HANDS), tuple(LIVE_PLACES)))
+            self.assertEqual(Run(change([[0, 1], [2, 3]])).deeds, ((0, 1), (2, 3)))
+
+    def test_creating_changes_nothing(self):
+        doors, hands, places, told = copy.deepcopy([DOORS, HANDS, LIVE_PLACES, [[0, 1]]])
+        House(4, doors)
+        Standing(hands, places)
+        Run(told)
+        self.assertEqual([doors, hands, places, told], [DOORS, HANDS, LIVE_PLACES, [[0, 1]]])
+
+    def test_sums_and_reverses_change_no_run(self):
+        first, second = Run([[0, 1], [2, 3]]), Run([[4, 5]])
+        total, back = first + second, -first
+        spoil(list(total))
+        self.assertEqual(first.deeds, ((0, 1), (2, 3)))
+        self.assertEqual(second.deeds, ((4, 5),))
+        self.assertEqual(back.deeds, ((2, 3), (0, 1)))
+
+
+if __name__ == "__main__":
+    unittest.main()
