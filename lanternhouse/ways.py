@@ -31,6 +31,7 @@ def ways_from(house, costs, rooms):
     the room before it on its way if there is only one way.
     """
     around = neighbours_of(house)
+    # The rooms are sorted because a sorted list is a heap already.
     cost_to = {room: 0 for room in sorted(rooms)}
     door_to = {}
     queue = [(0, room) for room in cost_to]

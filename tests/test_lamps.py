@@ -130,6 +130,15 @@ class Quickening(unittest.TestCase):
             most = max(most, len(doors))
         self.assertGreaterEqual(most, 2)
 
+    def test_a_cheap_way_with_more_doors(self):
+        # The red walks 0, 1, 2, 3 and the blue 4, 3; the door from 0 to 2 has the light B.
+        house = House(5, [(0, 2, "BR"), (0, 1, "RB"), (1, 2, "RB"), (2, 3, "RB"), (3, 4, "BR")])
+        standing = Standing([("R", 0), ("B", 4)], [0, 0, 0, 0, 0])
+        self.assertEqual(quicken(house, standing), [])
+        self.assertEqual(closeness(house, standing), 3)
+        recoloured = House(5, [(0, 2, "RB"), (0, 1, "BR"), (1, 2, "BR"), (2, 3, "BR"), (3, 4, "RB")])
+        self.assertEqual(quicken(recoloured, Standing([("B", 0), ("R", 4)], [0, 0, 0, 0, 0])), [])
+
     def test_several_doors_in_ascending_order(self):
         chain = House(7, [(room, room + 1, "RB") for room in (5, 4, 3, 2, 1, 0)])
         hands = [("R", 0), ("B", 6)]
