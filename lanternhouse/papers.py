@@ -4,7 +4,7 @@ from lanternhouse.house import need_rooms
 from lanternhouse.reach import need_dead, rooms_of, spread_over, walked_to
 from lanternhouse.requirements import BLUE, RED, need_tree, need_two_trades
 from lanternhouse.standing import lights_of, need_fits
-from lanternhouse.ways import far_end, ways_from
+from lanternhouse.trees import rooms_outward
 
 # A room is in the set of the reds, in the set of the blues, or in neither of them.
 PARTS = "RB-"
@@ -101,14 +101,12 @@ def count_papers(house, standing):
     need_tree(house)
     lights = lights_of(house, standing)
     counts = first_counts(house, standing)
-    cost_to, door_to = ways_from(house, [1] * len(house.doors), [0])
     # The outer rooms come first, so that the count of a room is whole when it
     # is taken over by the room before it.
-    for room in list(cost_to)[:0:-1]:
-        door = door_to[room]
-        before = counts[far_end(house, door, room)]
+    for room, door, before in rooms_outward(house)[::-1]:
         for part in PARTS:
-            before[part] *= sum([counts[room][own] for own in PARTS if agree(lights[door], part, own)])
+            outer = sum([counts[room][own] for own in PARTS if agree(lights[door], part, own)])
+            counts[before][part] *= outer
     return sum([counts[0][part] for part in PARTS])
 
 

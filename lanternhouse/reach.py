@@ -1,7 +1,7 @@
 """What the hands could walk to: spreads, live and rooted standings."""
 
 from lanternhouse.deeds import possible_deeds, standing_after
-from lanternhouse.errors import NotDead
+from lanternhouse.errors import NotDead, NotLive, NotRooted
 from lanternhouse.house import need_trade
 from lanternhouse.requirements import BLUE, RED, need_two_trades
 from lanternhouse.standing import last_lights_of, lights_of, need_fits
@@ -67,6 +67,18 @@ def need_dead(house, standing):
     """Raise NotDead if the standing is live."""
     if is_live(house, standing):
         raise NotDead("the standing is live")
+
+
+def need_live(house, standing):
+    """Raise NotLive if the standing is dead."""
+    if not is_live(house, standing):
+        raise NotLive("the standing is dead")
+
+
+def need_rooted(house, standing):
+    """Raise NotRooted if the standing is not rooted."""
+    if not is_rooted(house, standing):
+        raise NotRooted("the standing is not rooted")
 
 
 def safe_deeds(house, standing):

@@ -54,6 +54,11 @@ def need_hands(standing, hands):
             raise UnknownPart(f"there is no hand {hand}")
 
 
+def trades_of(standing):
+    """Return the list of the trades of the hands."""
+    return [trade for trade, _ in standing.hands]
+
+
 def lights_of(house, standing):
     """Return the list of the lights of all doors."""
     return [cycle[place] for cycle, place in zip(cycles_of(house), standing.places)]

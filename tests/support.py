@@ -11,6 +11,7 @@ import random
 from lanternhouse.deeds import Run
 from lanternhouse.house import House
 from lanternhouse.standing import Standing
+from lanternhouse.verdicts import Verdict
 
 
 def plain(value):
@@ -21,6 +22,9 @@ def plain(value):
         return ("standing", value.hands, value.places)
     if isinstance(value, Run):
         return ("run", value.deeds)
+    if isinstance(value, Verdict):
+        parts = (value.reached, value.run, value.room, value.side, value.paper, value.fault)
+        return ("verdict", plain(parts))
     if isinstance(value, (list, tuple)):
         return type(value)([plain(part) for part in value])
     return value
@@ -236,3 +240,172 @@ def slow_distance(house, standing):
         }
         steps += 1
     return steps
+
+
+# Odd houses.
+
+def odd_cycle(rng, longest):
+    """Make a cycle with an odd number of letters R and of letters B."""
+    pairs = [rng.choice(["RR", "BB"]) for _ in range(rng.randint(0, longest // 2 - 1))]
+    letters = list("RB" + "".join(pairs))
+    rng.shuffle(letters)
+    return "".join(letters)
+
+
+def odd_house(rng, rooms, more_doors=0, longest=4):
+    house = random_house(rng, rooms, more_doors)
+    return House(rooms, [(first, second, odd_cycle(rng, longest)) for first, second, _ in house.doors])
+
+
+def odd_samples(seed, count, most_rooms=4, hands=(2, 4), more_doors=2, longest=4):
+    """Make a list of pairs of an odd house and a standing that fits it."""
+    rng = random.Random(seed)
+    made = []
+    for _ in range(count):
+        house = odd_house(rng, rng.randint(1, most_rooms), rng.randint(0, more_doors), longest)
+        made.append((house, random_standing(rng, house, rng.randint(*hands))))
+    return made
+
+
+def another_standing(rng, house, standing):
+    """Make a standing with the same hands."""
+    other = random_standing(rng, house, 0)
+    return Standing([(trade, rng.randrange(house.rooms)) for trade, _ in standing.hands], other.places)
+
+
+def level(house, start, end):
+    """Return the end with places changed such that all ledgers are those of the start, or None.
+
+    All cycles of the house have an even number of letters.
+    """
+    places = list(end.places)
+    for _ in range(house.rooms):
+        unlike = [
+            room for room in range(house.rooms)
+            if slow_ledger(house, start, [room]) != slow_ledger(house, Standing(end.hands, places), [room])
+        ]
+        if not unlike:
+            return Standing(end.hands, places)
+        if len(unlike) == 1:
+            return None
+        for door in slow_way(house, unlike[0], unlike[1]):
+            places[door] = (places[door] + 1) % len(house.doors[door][2])
+    return None
+
+
+def plans_to_make(seed, count, most_rooms=4, hands=(2, 5), more_doors=2, longest=6):
+    """Make triples of an odd house, a live start and a rooted end with the same hands and ledgers."""
+    rng = random.Random(seed)
+    made = []
+    while len(made) < count:
+        house = odd_house(rng, rng.randint(1, most_rooms), rng.randint(0, more_doors), longest)
+        start = random_standing(rng, house, rng.randint(*hands))
+        end = level(house, start, another_standing(rng, house, start))
+        enough = len(house.doors) == house.rooms - 1 or len(start.hands) > 2
+        if enough and end is not None and slow_live(house, start) and slow_rooted(house, end):
+            made.append((house, start, end))
+    return made
+
+
+# Slow answers about trees, ledgers and runs.
+
+def slow_tree_doors(house):
+    """Go through the doors as point 33 says, with a search for a chain each time."""
+    tree = []
+    for door, (first, second, _) in enumerate(house.doors):
+        found = {first}
+        for _ in range(house.rooms):
+            for own in tree:
+                ends = set(house.doors[own][:2])
+                if ends & found:
+                    found |= ends
+        if second not in found:
+            tree.append(door)
+    return tree
+
+
+def slow_way(house, first, last, used=()):
+    """Find the way from room to room by trying all chains of tree doors without a door twice."""
+    if first == last:
+        return []
+    for door in slow_tree_doors(house):
+        ends = house.doors[door][:2]
+        if door not in used and first in ends:
+            behind = ends[0] if first == ends[1] else ends[1]
+            way = slow_way(house, behind, last, (*used, door))
+            if way is not None:
+                return [door] + way
+    return None
+
+
+def slow_ledger(house, standing, rooms):
+    """Count as point 35 says."""
+    rooms = set(rooms)
+    total = sum(1 for _, room in standing.hands if room in rooms)
+    for (first, second, _), place in zip(house.doors, standing.places):
+        if (first in rooms) != (second in rooms):
+            total += place
+    return total % 2
+
+
+def slow_replay(house, standing, run):
+    """Do the deeds one by one, and fail if one of them is not possible."""
+    for hand, door in run:
+        assert (hand, door) in slow_deeds(house, standing), (hand, door)
+        standing = slow_do(house, standing, hand, door)
+    return standing
+
+
+def slow_bound(house, hands):
+    """The plan bound of point 43."""
+    longest = max([len(cycle) for _, _, cycle in house.doors], default=0)
+    rooms, doors = house.rooms, len(house.doors)
+    return 2 * hands * (rooms - 1) * (4 * longest + 1) + 4 * doors * rooms * (2 * longest + 1)
+
+
+def slow_turned(house, standing):
+    """Turn back the house and the standing as point 12 says."""
+    doors = [(first, second, "".join(reversed(cycle))) for first, second, cycle in house.doors]
+    places = [
+        0 if place == 0 else len(cycle) - place
+        for (_, _, cycle), place in zip(house.doors, standing.places)
+    ]
+    return House(house.rooms, doors, trades=house.trades), Standing(standing.hands, places)
+
+
+def slow_farewell(house, standing, trade):
+    """Try all runs that move hands of this trade only."""
+    known = {}
+
+    def longest(now):
+        if plain(now) not in known:
+            known[plain(now)] = max([
+                1 + longest(slow_do(house, now, hand, door))
+                for hand, door in slow_deeds(house, now)
+                if now.hands[hand][0] == trade
+            ], default=0)
+        return known[plain(now)]
+
+    return longest(standing)
+
+
+def parted_trades(seed, count, most_rooms=3, most_hands=2):
+    """Make trees with reds in one part and blues in another part, and a closed room between.
+
+    The standings are dead, and in most of them both can do several deeds.
+    """
+    rng = random.Random(seed)
+    made = []
+    for _ in range(count):
+        reds, blues = rng.randint(1, most_rooms), rng.randint(1, most_rooms)
+        doors = [(rng.randrange(room), room, "R" * rng.randint(1, 4) + "B") for room in range(1, reds)]
+        doors += [
+            (reds + 1 + rng.randrange(room), reds + 1 + room, "B" * rng.randint(1, 4) + "R")
+            for room in range(1, blues)
+        ]
+        doors += [(rng.randrange(reds), reds, "BR"), (reds, reds + 1 + rng.randrange(blues), "RB")]
+        hands = [("R", rng.randrange(reds)) for _ in range(rng.randint(1, most_hands))]
+        hands += [("B", reds + 1 + rng.randrange(blues)) for _ in range(rng.randint(1, most_hands))]
+        rng.shuffle(hands)
+        made.append((House(reds + 1 + blues, doors), Standing(hands, [0] * len(doors))))
+    return made

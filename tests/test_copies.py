@@ -3,7 +3,10 @@
 import copy
 import unittest
 
-from lanternhouse import deeds, house, lamps, meeting, mirror, notation, papers, reach, standing
+from lanternhouse import (
+    captains, clock, deeds, farewell, gathering, house, lamps, ledgers, meeting, mirror, notation, pairs, papers,
+    planner, quiet, reach, school, standing, trees, verdicts,
+)
 from lanternhouse.deeds import Run
 from lanternhouse.house import House
 from lanternhouse.standing import Standing
@@ -22,6 +25,26 @@ DEAD = Standing([["R", 0], ["B", 3]], DEAD_PLACES)
 TREE = House(3, [[0, 1, "RB"], [1, 2, "RB"]])
 TREE_DEAD = Standing([["R", 0], ["B", 2]], [1, 0])
 WALK = Run([[0, 0], [0, 0]])
+# Odd houses: one with a ring, and a tree.
+ODD_RING = House(3, [[0, 1, "RB"], [1, 2, "RRRB"], [2, 0, "BR"]])
+ODD_HANDS = [["R", 1], ["B", 1], ["B", 1], ["R", 1]]
+PAIRED = Standing(ODD_HANDS, [0, 1, 0])
+PAIRED_END = Standing(ODD_HANDS, [1, 2, 1])
+SPREAD_END = Standing([["R", 2], ["B", 2], ["B", 1], ["R", 1]], [1, 2, 1])
+OTHER_TRADES_END = Standing([["B", 2], ["B", 2], ["R", 1], ["R", 1]], [1, 2, 1])
+TREE_END = Standing([["R", 0], ["B", 2]], [0, 0])
+QUIET_END = Standing([["R", 1], ["B", 2]], [1, 0])
+ONE_TRADE = Standing([["R", 0], ["R", 2]], [0, 0])
+VERDICT = verdicts.Verdict(False, side="start", paper=[[0, 0], [2]], fault=["number", 0])
+
+
+def with_odd_rings(asked, hands, wanted, odd_rings):
+    return ledgers.settings_for(asked, hands, wanted, odd_rings=odd_rings)
+
+
+def winner_of(asked, told, first):
+    return captains.winner(asked, told, first=first)
+
 
 # Each function of the interface with arguments that it answers.
 CALLS = [
@@ -73,6 +96,46 @@ CALLS = [
     (lamps.quicken, [RING, DEAD]),
     (lamps.closeness, [RING, DEAD]),
     (lamps.killing_lamps, [RING, DEAD]),
+    (trees.tree_doors, [RING]),
+    (trees.way_between, [RING, 3, 0]),
+    (trees.ring_of, [RING, 2]),
+    (trees.room_distance, [RING, 3, 0]),
+    (ledgers.ledgers_of, [RING, LIVE]),
+    (ledgers.ledger_of, [RING, LIVE, [3, 0, 3]]),
+    (ledgers.unlike_room, [RING, LIVE, DEAD]),
+    (ledgers.crossings, [TREE, TREE_DEAD, TREE_END]),
+    (ledgers.settings_for, [RING, HANDS, [0, 1, 1, 1]]),
+    (with_odd_rings, [RING, HANDS, [0, 1, 1, 1], [2, 2]]),
+    (pairs.pair_walk, [ODD_RING, PAIRED, [0, 2], 1]),
+    (pairs.pair_travel, [ODD_RING, PAIRED, [0, 2], 0]),
+    (pairs.even_turn, [ODD_RING, PAIRED, [0, 2], 1, 2]),
+    (pairs.carry, [ODD_RING, PAIRED, [0, 2], 1, 1]),
+    (gathering.gather, [ODD_RING, SPREAD_END, 0]),
+    (gathering.settle, [ODD_RING, PAIRED, PAIRED_END]),
+    (planner.plan_bound, [ODD_RING, 4]),
+    (planner.plan, [ODD_RING, PAIRED, SPREAD_END]),
+    (planner.pieces, [ODD_RING, PAIRED, SPREAD_END]),
+    (school.can_learn, [ODD_RING, PAIRED, 1]),
+    (school.learn, [ODD_RING, PAIRED, 1]),
+    (school.school_plan, [ODD_RING, PAIRED, OTHER_TRADES_END]),
+    (quiet.steps_between, [TREE, TREE_DEAD, TREE_END]),
+    (quiet.first_fault, [TREE, TREE_DEAD, TREE_END]),
+    (quiet.is_fault, [TREE, TREE_DEAD, TREE_END, ["number", 0]]),
+    (quiet.quiet_run, [TREE, TREE_END, QUIET_END]),
+    (quiet.quiet_run, [TREE, TREE_DEAD, TREE_DEAD]),
+    (verdicts.decide, [TREE, TREE_DEAD, TREE_END]),
+    (verdicts.decide, [ODD_RING, PAIRED, SPREAD_END]),
+    (verdicts.is_right, [TREE, TREE_DEAD, TREE_END, VERDICT]),
+    (farewell.farewell, [TREE, ONE_TRADE, "R"]),
+    (farewell.farewell_count, [TREE, ONE_TRADE, "R"]),
+    (winner_of, [TREE, ONE_TRADE, "B"]),
+    (captains.captain_deed, [TREE, ONE_TRADE, "R"]),
+    (clock.measure_of, [ODD_RING]),
+    (clock.colouring_of, [ODD_RING]),
+    (clock.colouring_of, [TREE]),
+    (clock.odd_ring, [House(2, [[0, 1, "RB"], [0, 1, "RBBB"]])]),
+    (clock.period_of, [ODD_RING]),
+    (clock.time_of, [ODD_RING, PAIRED]),
 ]
 
 

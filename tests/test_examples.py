@@ -2,9 +2,12 @@
 
 import unittest
 
+from lanternhouse.clock import colouring_of, measure_of, odd_ring, period_of, time_of
 from lanternhouse.deeds import Run, do, replay
+from lanternhouse.farewell import farewell, farewell_count
 from lanternhouse.house import House
 from lanternhouse.lamps import change_lamps, quicken
+from lanternhouse.ledgers import ledgers_of
 from lanternhouse.meeting import first_meeting, meeting_distance
 from lanternhouse.papers import closed_rooms, count_papers, greatest_paper, is_paper, least_paper
 from lanternhouse.reach import is_live, is_rooted, meeting_rooms, root_rooms, spread_of
@@ -36,8 +39,18 @@ class FirstHouse(unittest.TestCase):
         red, blue, run = first_meeting(self.house, self.standing)
         self.assertEqual((red, blue, len(run)), (0, 1, 2))
 
+    def test_clock(self):
+        self.assertEqual(measure_of(self.house), 2)
+        # Door 0 is heavy, door 1 is not.
+        self.assertEqual(colouring_of(self.house), [0, 1, 1])
+        self.assertIsNone(odd_ring(self.house))
+        self.assertEqual(period_of(self.house), 4)
+        self.assertEqual(time_of(self.house, self.standing), 1)
+
     def test_after_a_deed(self):
-        self.assertEqual(do(self.house, self.standing, 0, 0).places, (1, 3))
+        after = do(self.house, self.standing, 0, 0)
+        self.assertEqual(after.places, (1, 3))
+        self.assertEqual(time_of(self.house, after), 2)
 
 
 class SecondHouse(unittest.TestCase):
@@ -59,6 +72,14 @@ class SecondHouse(unittest.TestCase):
         self.assertEqual(least_paper(self.house, self.standing), ([0], [2]))
         self.assertEqual(greatest_paper(self.house, self.standing), ([0], [2]))
         self.assertIs(is_paper(self.house, self.standing, ([0], [2])), True)
+
+    def test_ledgers(self):
+        self.assertEqual(ledgers_of(self.house, self.standing), [0, 1, 1])
+
+    def test_farewells(self):
+        for trade in "RB":
+            self.assertEqual(farewell_count(self.house, self.standing, trade), 0)
+            self.assertEqual(farewell(self.house, self.standing, trade).deeds, ())
 
     def test_quickened_by_one_door(self):
         doors = quicken(self.house, self.standing)

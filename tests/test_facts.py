@@ -1,16 +1,18 @@
-"""The facts of points 20 to 22, 24, 28 and 54, tried in small houses."""
+"""The facts of points 12, 13, 20 to 22, 24, 28 and 54, tried in small houses."""
 
 import random
 import unittest
 
 from lanternhouse.deeds import Run, do, possible_deeds, replay
 from lanternhouse.house import House
-from lanternhouse.mirror import turned_house, turned_standing
-from lanternhouse.papers import closed_rooms, is_paper, least_paper
+from lanternhouse.meeting import meeting_distance
+from lanternhouse.mirror import recoloured_house, recoloured_standing, turned_house, turned_standing
+from lanternhouse.papers import closed_rooms, greatest_paper, is_paper, least_paper
+from lanternhouse.quiet import quiet_run
 from lanternhouse.reach import is_live, is_rooted, meeting_rooms, root_rooms, safe_deeds, spread_of
 from lanternhouse.standing import Standing, light_of
 
-from support import every_standing, mixed, plain, samples, slow_papers, slow_reached
+from support import another_standing, every_standing, mixed, plain, samples, slow_papers, slow_reached
 
 
 # Reds go round the rooms 0 to 2, blues round the rooms 4 to 6, and room 3 is closed.
@@ -118,6 +120,67 @@ class Papers(unittest.TestCase):
             self.assertEqual(closed, [room for room in range(house.rooms) if room not in entered])
             if {"R", "B"} == {trade for trade, _ in standing.hands}:
                 self.assertNotEqual(closed, [])
+
+
+class Recoloured(unittest.TestCase):
+
+    def recoloured_samples(self, seed, count, **limits):
+        return [
+            (house, standing, recoloured_house(house), recoloured_standing(house, standing))
+            for house, standing in samples(seed, count, **limits)
+        ]
+
+    def test_spreads(self):
+        for house, standing, other_house, other in self.recoloured_samples(92, 150, most_rooms=5):
+            self.assertEqual(spread_of(other_house, other, "R"), spread_of(house, standing, "B"))
+            self.assertEqual(spread_of(other_house, other, "B"), spread_of(house, standing, "R"))
+            self.assertEqual(meeting_rooms(other_house, other), meeting_rooms(house, standing))
+            self.assertEqual(root_rooms(other_house, other), root_rooms(house, standing))
+
+    def test_papers(self):
+        dead = 0
+        for house, standing, other_house, other in self.recoloured_samples(93, 150):
+            if not is_live(house, standing):
+                dead += 1
+                reds, blues = greatest_paper(house, standing)
+                self.assertEqual(least_paper(other_house, other), (blues, reds))
+                reds, blues = least_paper(house, standing)
+                self.assertEqual(greatest_paper(other_house, other), (blues, reds))
+                papers = [(second, first) for first, second in slow_papers(house, standing)]
+                self.assertEqual(sorted(slow_papers(other_house, other)), sorted(papers))
+        self.assertGreater(dead, 30)
+
+    def test_first_meetings(self):
+        for house, standing, other_house, other in self.recoloured_samples(94, 200, most_rooms=6):
+            self.assertEqual(meeting_distance(other_house, other), meeting_distance(house, standing))
+
+    def test_quiet_runs(self):
+        rng = random.Random(95)
+        for house, standing, other_house, other in self.recoloured_samples(96, 150, more_doors=0):
+            end = another_standing(rng, house, standing)
+            runs = [
+                quiet_run(house, standing, end),
+                quiet_run(other_house, other, recoloured_standing(house, end)),
+            ]
+            self.assertEqual(runs[0] is None, runs[1] is None)
+
+
+class TurnedBack(unittest.TestCase):
+
+    def test_quiet_runs(self):
+        rng = random.Random(97)
+        for house, standing in samples(98, 200, more_doors=0):
+            end = another_standing(rng, house, standing)
+            if rng.random() < 0.5:
+                for _ in range(4):
+                    deeds = possible_deeds(house, end)
+                    end = do(house, end, *rng.choice(deeds)) if deeds else end
+            back = [turned_standing(house, one) for one in (end, standing)]
+            turned = quiet_run(turned_house(house), *back)
+            run = quiet_run(house, standing, end)
+            self.assertEqual(run is None, turned is None)
+            if run is not None:
+                self.assertEqual(plain(replay(turned_house(house), back[0], -run)), plain(back[1]))
 
 
 class TwoTradesInDeadStandings(unittest.TestCase):

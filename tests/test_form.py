@@ -46,6 +46,37 @@ INTERFACE = {
         "change_lamps(house, standing, doors)", "quicken(house, standing)", "closeness(house, standing)",
         "killing_lamps(house, standing)",
     ],
+    "trees": [
+        "tree_doors(house)", "way_between(house, first, last)", "ring_of(house, door)",
+        "room_distance(house, first, last)",
+    ],
+    "ledgers": [
+        "ledgers_of(house, standing)", "ledger_of(house, standing, rooms)", "unlike_room(house, start, end)",
+        "crossings(house, start, end)", "settings_for(house, hands, wanted, *, odd_rings=())",
+    ],
+    "pairs": [
+        "pair_walk(house, standing, pair, door)", "pair_travel(house, standing, pair, room)",
+        "even_turn(house, standing, pair, door, steps)", "carry(house, standing, pair, hand, door, *, steps=1)",
+    ],
+    "gathering": ["gather(house, standing, room)", "settle(house, start, end)"],
+    "planner": ["plan_bound(house, hands)", "plan(house, start, end)", "pieces(house, start, end)"],
+    "school": [
+        "can_learn(house, standing, hand)", "learn(house, standing, hand)", "school_plan(house, start, end)",
+    ],
+    "quiet": [
+        "steps_between(house, start, end)", "first_fault(house, start, end)",
+        "is_fault(house, start, end, fault)", "quiet_run(house, start, end)",
+    ],
+    "verdicts": [
+        "Verdict(reached, *, run=None, room=None, side=None, paper=None, fault=None)",
+        "decide(house, start, end)", "is_right(house, start, end, verdict)",
+    ],
+    "farewell": ["farewell(house, standing, trade)", "farewell_count(house, standing, trade)"],
+    "captains": ["winner(house, standing, *, first)", "captain_deed(house, standing, trade)"],
+    "clock": [
+        "measure_of(house)", "colouring_of(house)", "odd_ring(house)", "period_of(house)",
+        "time_of(house, standing)",
+    ],
     "errors": ["InvalidHouse(door)", "BadDeed(at)", "InvalidText(line)", "NotPossible(hand, door)", "Refused(row)"],
 }
 
@@ -168,10 +199,17 @@ class Form(unittest.TestCase):
 
     def test_statements_and_expressions_that_are_not_used(self):
         barred = (
-            ast.Global, ast.AsyncFunctionDef, ast.Try, ast.With, ast.Yield, ast.YieldFrom, ast.Lambda, ast.Div,
+            ast.Global, ast.AsyncFunctionDef, ast.With, ast.Yield, ast.YieldFrom, ast.Lambda, ast.Div,
             ast.GeneratorExp, ast.AnnAssign, ast.Delete, ast.Nonlocal, ast.Starred, ast.NamedExpr,
         )
         self.assertEqual([(name, ast.dump(node)) for name, node in nodes(barred)], [])
+
+    def test_only_own_errors_are_caught(self):
+        own = [node.name for node in trees()["errors"].body if isinstance(node, ast.ClassDef)]
+        for name, node in nodes(ast.Try):
+            self.assertEqual(node.finalbody, [], name)
+            for handler in node.handlers:
+                self.assertIn(handler.type.id, own, name)
 
     def test_is_stands_beside_none_true_and_false(self):
         for name, node in nodes(ast.Compare):
