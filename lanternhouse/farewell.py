@@ -90,15 +90,14 @@ def moved_hands(house, hands, trade, passes):
     """Return the hands after the flows of the passes, for which any hands of the trade are taken."""
     hands = list(hands)
     moves = [(door, source) for door, source, flow, _ in passes for _ in range(flow)]
-    # No flows go round in a tree, so some hand can move as long as moves are left.
+    # A move whose source has no hand yet waits behind the others. No flows go
+    # round in a tree, so some hand can move as long as moves are left.
     while len(moves) > 0:
-        waiting = []
-        for door, source in moves:
-            if (trade, source) in hands:
-                hands[hands.index((trade, source))] = (trade, far_end(house, door, source))
-            else:
-                waiting.append((door, source))
-        moves = waiting
+        door, source = moves.pop(0)
+        if (trade, source) in hands:
+            hands[hands.index((trade, source))] = (trade, far_end(house, door, source))
+        else:
+            moves.append((door, source))
     return hands
 
 

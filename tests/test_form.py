@@ -90,6 +90,9 @@ WORDS = {
     "dir", "eval", "exec", "exit", "help", "id", "vars", "os", "sys", "compile", "globals", "locals", "quit",
 }
 DOUBLE = {"__init__", "__len__", "__iter__", "__add__", "__neg__"}
+CHANGING = {
+    "append", "clear", "extend", "insert", "pop", "remove", "reverse", "setdefault", "sort", "update", "add", "discard",
+}
 
 
 def sources():
@@ -103,6 +106,53 @@ def trees():
 def nodes(kinds):
     """List the nodes of these kinds in all files, with the names of their files."""
     return [(name, node) for name, tree in trees().items() for node in ast.walk(tree) if isinstance(node, kinds)]
+
+
+def names_in(node):
+    """Tell the names that stand in the node as values."""
+    return {part.id for part in ast.walk(node) if isinstance(part, ast.Name)}
+
+
+def walked_names(node):
+    """Tell the names of what a loop goes over itself, not of a copy or of an answer."""
+    if isinstance(node, ast.Call):
+        if isinstance(node.func, ast.Name) and node.func.id in ("enumerate", "zip", "reversed"):
+            return set().union(*[walked_names(part) for part in node.args])
+        if isinstance(node.func, ast.Attribute) and node.func.attr in ("items", "keys", "values"):
+            return walked_names(node.func.value)
+        return set()
+    if isinstance(node, (ast.Attribute, ast.Subscript)):
+        return walked_names(node.value)
+    return names_in(node) if isinstance(node, (ast.Name, ast.IfExp, ast.BoolOp)) else set()
+
+
+def with_other_names(function, names):
+    """Add the names that stand for the same lists, by plain assignments anywhere in the function."""
+    names = set(names)
+    while True:
+        more = set()
+        for node in ast.walk(function):
+            if isinstance(node, ast.Assign) and isinstance(node.value, ast.Name):
+                both = {node.value.id} | {target.id for target in node.targets if isinstance(target, ast.Name)}
+                more |= both if both & names else set()
+        if more <= names:
+            return names
+        names |= more
+
+
+def changed_names(node):
+    """Tell the names of the lists and dicts that the statements in the node change."""
+    found = set()
+    for part in ast.walk(node):
+        if isinstance(part, ast.Subscript) and not isinstance(part.ctx, ast.Load):
+            found |= walked_names(part.value)
+        if isinstance(part, ast.AugAssign) and isinstance(part.target, ast.Name):
+            found.add(part.target.id)
+        if isinstance(part, ast.Call) and isinstance(part.func, ast.Attribute) and part.func.attr in CHANGING:
+            found |= walked_names(part.func.value)
+        if isinstance(part, ast.Call) and isinstance(part.func, ast.Name) and part.func.id.startswith("heap"):
+            found |= walked_names(part.args[0])
+    return found
 
 
 class Interface(unittest.TestCase):
@@ -244,6 +294,14 @@ class Form(unittest.TestCase):
         for name, node in nodes(ast.Name):
             if node.id in own:
                 self.assertIn(node.id, CALLED | errors, name)
+
+    def test_what_a_loop_goes_over_is_not_changed_in_it(self):
+        for name, function in nodes(ast.FunctionDef):
+            for node in ast.walk(function):
+                if isinstance(node, ast.For):
+                    walked = with_other_names(function, walked_names(node.iter))
+                    changed = set().union(*[changed_names(part) for part in node.body])
+                    self.assertEqual(walked & changed, set(), (name, function.name, node.lineno))
 
     def test_functions_and_classes_are_explained(self):
         for name, node in nodes((ast.FunctionDef, ast.ClassDef)):
