@@ -1,7 +1,6 @@
 """The clock: what the number of deeds of a run leaves when it is divided by the period."""
 
-from math import gcd
-
+from lanternhouse.coins import common_divisor
 from lanternhouse.house import cycles_of
 from lanternhouse.requirements import RED, need_a_door, need_odd, need_two_trades
 from lanternhouse.standing import need_fits
@@ -11,10 +10,7 @@ from lanternhouse.trees import ring_of, rooms_outward
 def measure_of(house):
     """Return the measure of the house."""
     need_a_door(house)
-    measure = 0
-    for cycle in cycles_of(house):
-        measure = gcd(measure, len(cycle))
-    return measure
+    return common_divisor([len(cycle) for cycle in cycles_of(house)])
 
 
 def weights_of(house):

@@ -39,12 +39,18 @@ def need_plan_parts(house, start, end):
     need_rooted(house, end)
 
 
-def plan_pieces(house, start, end):
-    """Return the pieces of the plan if all ledgers are equal."""
+def plan_halves(house, start, end):
+    """Return the trail that gathers the hands in one room, and the pieces from there to the end."""
     room = fullest_room(house, start, end)
     first = gathered(house, start, room)
     target, last_pieces = parted(house, end, room)
-    return first.pieces + settled(house, first.standing, target).pieces + last_pieces
+    return first, settled(house, first.standing, target).pieces + last_pieces
+
+
+def plan_pieces(house, start, end):
+    """Return the pieces of the plan if all ledgers are equal."""
+    first, last_pieces = plan_halves(house, start, end)
+    return first.pieces + last_pieces
 
 
 def plan(house, start, end):

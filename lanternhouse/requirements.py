@@ -1,7 +1,7 @@
 """The requirements that do not belong to houses, standings or reach alone."""
 
-from lanternhouse.errors import NoDoors, NotOdd, NotTree, TooFewHands, UnlikeHands, WrongTrades
-from lanternhouse.house import is_odd, is_tree
+from lanternhouse.errors import NoDoors, NotOdd, NotStrict, NotTree, TooFewHands, UnlikeHands, WrongTrades
+from lanternhouse.house import is_odd, is_strict, is_tree
 from lanternhouse.standing import MASTER, need_fits, trades_of
 
 RED = "R"
@@ -53,6 +53,12 @@ def need_tree(house):
     """Raise NotTree if the house is no tree."""
     if not is_tree(house):
         raise NotTree("the house is no tree")
+
+
+def need_strict(house):
+    """Raise NotStrict if the house is not strict."""
+    if not is_strict(house):
+        raise NotStrict("the house is not strict")
 
 
 def need_three_hands(standing):

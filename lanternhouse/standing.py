@@ -59,6 +59,11 @@ def trades_of(standing):
     return [trade for trade, _ in standing.hands]
 
 
+def hands_of(standing, trade):
+    """Return the ascending list of the hands of the trade."""
+    return [hand for hand, own in enumerate(trades_of(standing)) if own == trade]
+
+
 def lights_of(house, standing):
     """Return the list of the lights of all doors."""
     return [cycle[place] for cycle, place in zip(cycles_of(house), standing.places)]

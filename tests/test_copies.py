@@ -4,8 +4,8 @@ import copy
 import unittest
 
 from lanternhouse import (
-    captains, clock, deeds, farewell, gathering, house, lamps, ledgers, meeting, mirror, notation, pairs, papers,
-    planner, quiet, reach, school, standing, trees, verdicts,
+    captains, clock, coins, deeds, exact, farewell, gathering, house, lamps, ledgers, meeting, mirror, notation, pairs,
+    papers, planner, quiet, reach, removal, school, standing, trees, twohands, undoing, verdicts,
 )
 from lanternhouse.deeds import Run
 from lanternhouse.house import House
@@ -35,6 +35,8 @@ OTHER_TRADES_END = Standing([["B", 2], ["B", 2], ["R", 1], ["R", 1]], [1, 2, 1])
 TREE_END = Standing([["R", 0], ["B", 2]], [0, 0])
 QUIET_END = Standing([["R", 1], ["B", 2]], [1, 0])
 ONE_TRADE = Standing([["R", 0], ["R", 2]], [0, 0])
+TOGETHER = Standing([["R", 0], ["B", 0]], [0, 0])
+TOGETHER_END = Standing([["R", 1], ["B", 1]], [0, 0])
 VERDICT = verdicts.Verdict(False, side="start", paper=[[0, 0], [2]], fault=["number", 0])
 
 
@@ -136,6 +138,17 @@ CALLS = [
     (clock.odd_ring, [House(2, [[0, 1, "RB"], [0, 1, "RBBB"]])]),
     (clock.period_of, [ODD_RING]),
     (clock.time_of, [ODD_RING, PAIRED]),
+    (coins.sure_amount, [[6, 10, 15]]),
+    (coins.pay, [[6, 10, 15, 6], 43]),
+    (exact.sure_count, [ODD_RING, PAIRED, SPREAD_END]),
+    (exact.exact_plan, [ODD_RING, PAIRED, SPREAD_END, exact.sure_count(ODD_RING, PAIRED, SPREAD_END)]),
+    (exact.exact_plan, [ODD_RING, PAIRED, SPREAD_END, 1]),
+    (removal.shortest_stretch, ["RRRB", 2, 3, 4]),
+    (removal.removal, [TREE, TOGETHER, 2]),
+    (undoing.undo_run, [TREE, TOGETHER, 0, 0]),
+    (undoing.undo_run, [TREE, ONE_TRADE, 0, 0]),
+    (twohands.two_hands_run, [TREE, TOGETHER, TOGETHER_END]),
+    (twohands.two_hands_run, [TREE, TOGETHER, TOGETHER]),
 ]
 
 

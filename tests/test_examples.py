@@ -11,6 +11,7 @@ from lanternhouse.ledgers import ledgers_of
 from lanternhouse.meeting import first_meeting, meeting_distance
 from lanternhouse.papers import closed_rooms, count_papers, greatest_paper, is_paper, least_paper
 from lanternhouse.reach import is_live, is_rooted, meeting_rooms, root_rooms, spread_of
+from lanternhouse.removal import shortest_stretch
 from lanternhouse.standing import Standing, last_light_of, light_of
 
 
@@ -46,6 +47,10 @@ class FirstHouse(unittest.TestCase):
         self.assertIsNone(odd_ring(self.house))
         self.assertEqual(period_of(self.house), 4)
         self.assertEqual(time_of(self.house, self.standing), 1)
+
+    def test_shortest_stretch(self):
+        self.assertEqual(shortest_stretch("RRRB", 0, 1, 1), 4)
+        self.assertEqual(shortest_stretch("RRRB", 2, 1, 1), 2)
 
     def test_after_a_deed(self):
         after = do(self.house, self.standing, 0, 0)

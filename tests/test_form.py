@@ -77,6 +77,11 @@ INTERFACE = {
         "measure_of(house)", "colouring_of(house)", "odd_ring(house)", "period_of(house)",
         "time_of(house, standing)",
     ],
+    "coins": ["sure_amount(coins)", "pay(coins, amount)"],
+    "exact": ["sure_count(house, start, end)", "exact_plan(house, start, end, count)"],
+    "removal": ["shortest_stretch(cycle, place, reds, blues)", "removal(house, standing, room)"],
+    "undoing": ["undo_run(house, standing, hand, door)"],
+    "twohands": ["two_hands_run(house, start, end)"],
     "errors": ["InvalidHouse(door)", "BadDeed(at)", "InvalidText(line)", "NotPossible(hand, door)", "Refused(row)"],
 }
 
