@@ -1,7 +1,9 @@
 """The requirements that do not belong to houses, standings or reach alone."""
 
-from lanternhouse.errors import NoDoors, NotOdd, NotStrict, NotTree, TooFewHands, UnlikeHands, WrongTrades
-from lanternhouse.house import is_odd, is_strict, is_tree
+from lanternhouse.errors import (
+    NoDoors, NotEven, NotOdd, NotStrict, NotSwift, NotTree, TooFewHands, UnlikeHands, WrongTrades,
+)
+from lanternhouse.house import is_even, is_odd, is_strict, is_swift, is_tree
 from lanternhouse.standing import MASTER, need_fits, trades_of
 
 RED = "R"
@@ -16,11 +18,16 @@ def need_red_and_blue(house):
         raise WrongTrades("the trades of the house are not RB")
 
 
+def need_no_masters(standing):
+    """Raise WrongTrades if a hand is a master."""
+    if MASTER in trades_of(standing):
+        raise WrongTrades("a hand is a master")
+
+
 def need_two_trades(house, standing):
     """Raise WrongTrades if the trades are not RB or a hand is a master."""
     need_red_and_blue(house)
-    if MASTER in trades_of(standing):
-        raise WrongTrades("a hand is a master")
+    need_no_masters(standing)
 
 
 def need_same_hands(start, end):
@@ -43,6 +50,12 @@ def need_a_door(house):
         raise NoDoors("the house has no door")
 
 
+def need_even(house):
+    """Raise NotEven if the house is not even."""
+    if not is_even(house):
+        raise NotEven("the house is not even")
+
+
 def need_odd(house):
     """Raise NotOdd if the house is not odd."""
     if not is_odd(house):
@@ -59,6 +72,12 @@ def need_strict(house):
     """Raise NotStrict if the house is not strict."""
     if not is_strict(house):
         raise NotStrict("the house is not strict")
+
+
+def need_swift(house):
+    """Raise NotSwift if the house is not swift."""
+    if not is_swift(house):
+        raise NotSwift("the house is not swift")
 
 
 def need_three_hands(standing):

@@ -23,13 +23,13 @@ def tree_costs(house):
     return [1 if door in doors else None for door in range(len(house.doors))]
 
 
-def rooms_outward(house):
-    """Return a triple (room, door, room before) for every room but room 0.
+def rooms_outward(house, inmost=0):
+    """Return a triple (room, door, room before) for every room but the inmost one.
 
-    The door is the last one on the way from room 0 to the room, and leads to
-    it from the room before. Each room comes after the room before it.
+    The door is the last one on the way from the inmost room to the room, and leads
+    to it from the room before. Each room comes after the room before it.
     """
-    cost_to, door_to = ways_from(house, tree_costs(house), [0])
+    cost_to, door_to = ways_from(house, tree_costs(house), [inmost])
     return [(room, door_to[room], far_end(house, door_to[room], room)) for room in list(cost_to)[1:]]
 
 

@@ -244,17 +244,18 @@ def slow_distance(house, standing):
 
 # Odd houses.
 
-def odd_cycle(rng, longest):
-    """Make a cycle with an odd number of letters R and of letters B."""
-    pairs = [rng.choice(["RR", "BB"]) for _ in range(rng.randint(0, longest // 2 - 1))]
-    letters = list("RB" + "".join(pairs))
+def odd_cycle(rng, longest, trades="RB"):
+    """Make a cycle with an odd number of letters of each trade."""
+    pairs = [rng.choice([trade * 2 for trade in trades]) for _ in range(rng.randint(0, (longest - len(trades)) // 2))]
+    letters = list(trades + "".join(pairs))
     rng.shuffle(letters)
     return "".join(letters)
 
 
-def odd_house(rng, rooms, more_doors=0, longest=4):
+def odd_house(rng, rooms, more_doors=0, longest=4, trades="RB"):
     house = random_house(rng, rooms, more_doors)
-    return House(rooms, [(first, second, odd_cycle(rng, longest)) for first, second, _ in house.doors])
+    doors = [(first, second, odd_cycle(rng, longest, trades)) for first, second, _ in house.doors]
+    return House(rooms, doors, trades=trades)
 
 
 def odd_samples(seed, count, most_rooms=4, hands=(2, 4), more_doors=2, longest=4):
@@ -265,6 +266,33 @@ def odd_samples(seed, count, most_rooms=4, hands=(2, 4), more_doors=2, longest=4
         house = odd_house(rng, rng.randint(1, most_rooms), rng.randint(0, more_doors), longest)
         made.append((house, random_standing(rng, house, rng.randint(*hands))))
     return made
+
+
+def even_house(rng, rooms, more_doors=0, longest=6, trades="RB"):
+    """Make a house with cycles of an even number of letters, at most the longest, which is even."""
+    house = random_house(rng, rooms, more_doors)
+    doors = []
+    for first, second, _ in house.doors:
+        cycle = random_cycle(rng, longest, trades)
+        doors.append((first, second, cycle + rng.choice(trades) * (len(cycle) % 2)))
+    return House(rooms, doors, trades=trades)
+
+
+def swift_house(rng, rooms, longest=4):
+    """Make a tree in whose cycles no B follows a B, not even round the end."""
+    house = random_house(rng, rooms)
+    doors = []
+    for first, second, _ in house.doors:
+        cycle = random_cycle(rng, longest)
+        while "BB" in cycle * 2:
+            cycle = random_cycle(rng, longest)
+        doors.append((first, second, cycle))
+    return House(rooms, doors)
+
+
+def some_trades(rng):
+    """Choose two to five trades in any order."""
+    return "".join(rng.sample("RBAXYZ", rng.randint(2, 5)))
 
 
 def another_standing(rng, house, standing):
@@ -371,6 +399,15 @@ def slow_turned(house, standing):
         for (_, _, cycle), place in zip(house.doors, standing.places)
     ]
     return House(house.rooms, doors, trades=house.trades), Standing(standing.hands, places)
+
+
+def slow_wander(rng, house, standing, count):
+    """Do so many random deeds, as far as any are possible."""
+    for _ in range(count):
+        deeds = slow_deeds(house, standing)
+        if deeds:
+            standing = slow_do(house, standing, *rng.choice(deeds))
+    return standing
 
 
 def slow_farewell(house, standing, trade):

@@ -4,8 +4,9 @@ import copy
 import unittest
 
 from lanternhouse import (
-    captains, clock, coins, deeds, exact, farewell, gathering, house, lamps, ledgers, meeting, mirror, notation, pairs,
-    papers, planner, quiet, reach, removal, school, standing, trees, twohands, undoing, verdicts,
+    captains, chase, clock, coins, crews, deeds, desk, exact, farewell, gathering, growth, guilds, house, lamps, ledgers,
+    masters, meeting, mirror, notation, pairs, papers, planner, quiet, reach, removal, school, standing, trees, twohands,
+    undoing, verdicts,
 )
 from lanternhouse.deeds import Run
 from lanternhouse.house import House
@@ -37,6 +38,13 @@ QUIET_END = Standing([["R", 1], ["B", 2]], [1, 0])
 ONE_TRADE = Standing([["R", 0], ["R", 2]], [0, 0])
 TOGETHER = Standing([["R", 0], ["B", 0]], [0, 0])
 TOGETHER_END = Standing([["R", 1], ["B", 1]], [0, 0])
+CHASED = Standing([["R", 0], ["B", 2]], [0, 0])
+GUILDS = House(2, [[0, 1, "YXZ"], [1, 0, "XXYXZ"]], trades="XYZ")
+TRIO = [["X", 0], ["Y", 0], ["Z", 0]]
+CREW = Standing(TRIO + [["Y", 0], ["Y", 1], ["Z", 1], ["X", 1], ["X", 1], ["Z", 1]], [0, 2])
+CREW_END = Standing(TRIO + [["Y", 0], ["Y", 1], ["Z", 1], ["X", 1], ["X", 1], ["Z", 1]], [1, 2])
+MASTERS = Standing([["R", 1], ["*", 2], ["B", 0], ["*", 0]], [0, 1, 0])
+MASTERS_END = Standing([["R", 2], ["*", 1], ["B", 0], ["*", 0]], [0, 0, 0])
 VERDICT = verdicts.Verdict(False, side="start", paper=[[0, 0], [2]], fault=["number", 0])
 
 
@@ -44,8 +52,24 @@ def with_odd_rings(asked, hands, wanted, odd_rings):
     return ledgers.settings_for(asked, hands, wanted, odd_rings=odd_rings)
 
 
-def winner_of(asked, told, first):
-    return captains.winner(asked, told, first=first)
+def winner_of(asked, start, first):
+    return captains.winner(asked, start, first=first)
+
+
+def exchange_with_steps(asked, start, crew, movers, door, steps):
+    return guilds.exchange(asked, start, crew, movers, door, steps=steps)
+
+
+def crews_end():
+    """A standing that a run leads to: the crew walks through door 0, and the hand 3 follows it."""
+    run = guilds.crew_walk(GUILDS, CREW, [0, 1, 2], 0)
+    return deeds.replay(GUILDS, CREW, run + Run([(3, 0)]))
+
+
+def told(asked, start, rows):
+    """Tell all rows to a desk, and return all that it answers and keeps."""
+    made = desk.Desk(asked, start)
+    return made.tell_all(rows), made.journal(), list(made), made.house, made.standing
 
 
 # Each function of the interface with arguments that it answers.
@@ -149,6 +173,32 @@ CALLS = [
     (undoing.undo_run, [TREE, ONE_TRADE, 0, 0]),
     (twohands.two_hands_run, [TREE, TOGETHER, TOGETHER_END]),
     (twohands.two_hands_run, [TREE, TOGETHER, TOGETHER]),
+    (chase.is_forced, [TREE, CHASED]),
+    (chase.chased_pair, [TREE, CHASED]),
+    (chase.chase_door, [TREE, CHASED, [0, 1]]),
+    (guilds.trade_ledgers, [GUILDS, CREW]),
+    (guilds.unlike_trades, [GUILDS, CREW, CREW_END]),
+    (guilds.crew_of, [GUILDS, CREW]),
+    (guilds.crew_walk, [GUILDS, CREW, [0, 1, 2], 0]),
+    (guilds.exchange, [GUILDS, CREW, [0, 1, 2], [3, 4, 3], 0]),
+    (guilds.exchange, [GUILDS, CREW, [0, 1, 2], [3], 0]),
+    (exchange_with_steps, [GUILDS, CREW, [0, 1, 2], [5, 5], 0, 2]),
+    (crews.crew_bound, [GUILDS, 9]),
+    (crews.is_canonical, [GUILDS, CREW, 0]),
+    (crews.canonical_run, [GUILDS, CREW, 1]),
+    (crews.crew_plan, [GUILDS, CREW, CREW_END]),
+    (crews.crew_plan, [GUILDS, CREW, crews_end()]),
+    (masters.closed_walk, [RING, 2, [1, 3, 1, 2]]),
+    (masters.closed_walk, [RING, 2, [1, 2, 1, 2]]),
+    (masters.master_bound, [RING, 3]),
+    (masters.master_plan, [ODD_RING, MASTERS, MASTERS_END]),
+    (masters.master_plan, [ODD_RING, MASTERS, Standing(MASTERS.hands, [0, 3, 0])]),
+    (growth.with_door, [RING, LIVE, 0, 3, "RB"]),
+    (growth.with_room, [RING, LIVE, 3, "RBB"]),
+    (growth.with_hand, [RING, LIVE, "*", 2]),
+    (growth.quickening_doors, [TREE, TREE_DEAD]),
+    (growth.joined, [RING, LIVE, TREE, TREE_DEAD, 3, 1, "BR"]),
+    (told, [RING, LIVE, ["live?", "pass 0 0", "room 1 RB 0", "hand B 0", "undo", "deeds?"]]),
 ]
 
 
@@ -209,7 +259,7 @@ class Answers(unittest.TestCase):
         for function, arguments in CALLS:
             wanted = plain(function(*arguments))
             changed = [other if part is RING else there if part in (LIVE, DEAD) else part for part in arguments]
-            if function is not deeds.replay and function is not deeds.course and function is not deeds.do:
+            if function not in (deeds.replay, deeds.course, deeds.do, told):
                 function(*changed)
             deeds.possible_deeds(other, there)
             reach.meeting_rooms(other, there)

@@ -82,6 +82,23 @@ INTERFACE = {
     "removal": ["shortest_stretch(cycle, place, reds, blues)", "removal(house, standing, room)"],
     "undoing": ["undo_run(house, standing, hand, door)"],
     "twohands": ["two_hands_run(house, start, end)"],
+    "chase": ["is_forced(house, standing)", "chased_pair(house, standing)", "chase_door(house, standing, pair)"],
+    "guilds": [
+        "trade_ledgers(house, standing)", "unlike_trades(house, start, end)", "crew_of(house, standing)",
+        "crew_walk(house, standing, crew, door)", "exchange(house, standing, crew, movers, door, *, steps=0)",
+    ],
+    "crews": [
+        "crew_bound(house, hands)", "is_canonical(house, standing, room)", "canonical_run(house, standing, room)",
+        "crew_plan(house, start, end)",
+    ],
+    "masters": ["closed_walk(house, room, passes)", "master_bound(house, hands)", "master_plan(house, start, end)"],
+    "growth": [
+        "with_door(house, standing, first, second, cycle, *, place=0)",
+        "with_room(house, standing, room, cycle, *, place=0)", "with_hand(house, standing, trade, room)",
+        "quickening_doors(house, standing)",
+        "joined(first_house, first_standing, second_house, second_standing, first_room, second_room, cycle, *, place=0)",
+    ],
+    "desk": ["Desk(house, standing)"],
     "errors": ["InvalidHouse(door)", "BadDeed(at)", "InvalidText(line)", "NotPossible(hand, door)", "Refused(row)"],
 }
 
@@ -178,8 +195,12 @@ class Interface(unittest.TestCase):
 
     def test_methods_stand_in_the_class_itself(self):
         from lanternhouse.deeds import Run
+        from lanternhouse.desk import Desk
         for method in ("__len__", "__iter__", "__add__", "__neg__"):
             self.assertIn(method, vars(Run))
+        for method in ("tell(self, row)", "tell_all(self, rows)", "journal(self)", "__len__(self)", "__iter__(self)"):
+            word = method.split("(")[0]
+            self.assertEqual(word + str(inspect.signature(vars(Desk)[word])), method)
 
 
 class Form(unittest.TestCase):
@@ -247,10 +268,37 @@ class Form(unittest.TestCase):
                 if at == 0:
                     self.assertIsInstance(node, ast.Expr, name)
                     self.assertIsInstance(node.value.value, str, name)
+                elif isinstance(node, ast.Assign) and isinstance(node.value, ast.Dict):
+                    self.check_table(tree, node)
                 elif isinstance(node, ast.Assign):
                     self.assertIsInstance(node.value, ast.Constant, name)
                 else:
                     self.assertIsInstance(node, (ast.ImportFrom, ast.FunctionDef, ast.ClassDef), name)
+
+    def check_table(self, tree, table):
+        """Check a dict at module level: plain keys, plain values or functions above it."""
+        above = [
+            node.name for node in tree.body if isinstance(node, ast.FunctionDef) and node.lineno < table.lineno
+        ]
+        for key, value in zip(table.value.keys, table.value.values):
+            self.assertIsInstance(key, ast.Constant)
+            if isinstance(value, ast.Name):
+                self.assertIn(value.id, above)
+            else:
+                self.assertIsInstance(value, ast.Constant)
+
+    def test_tables_are_only_read(self):
+        for name, tree in trees().items():
+            tables = [
+                node.targets[0].id for node in tree.body
+                if isinstance(node, ast.Assign) and isinstance(node.value, ast.Dict)
+            ]
+            for node in ast.walk(tree):
+                for child in ast.iter_child_nodes(node):
+                    if isinstance(child, ast.Name) and child.id in tables and isinstance(child.ctx, ast.Load):
+                        read = isinstance(node, (ast.Subscript, ast.Compare))
+                        got = isinstance(node, ast.Attribute) and node.attr == "get"
+                        self.assertTrue(read or got, (name, child.id, node.lineno))
 
     def test_statements_and_expressions_that_are_not_used(self):
         barred = (
@@ -262,7 +310,9 @@ class Form(unittest.TestCase):
     def test_only_own_errors_are_caught(self):
         own = [node.name for node in trees()["errors"].body if isinstance(node, ast.ClassDef)]
         for name, node in nodes(ast.Try):
-            self.assertEqual(node.finalbody, [], name)
+            for last in node.finalbody:
+                self.assertIsInstance(last, ast.Assign, name)
+                self.assertIsInstance(last.value, ast.Constant, name)
             for handler in node.handlers:
                 self.assertIn(handler.type.id, own, name)
 
