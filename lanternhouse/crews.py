@@ -89,14 +89,14 @@ def refill(trail, crew, door, place):
 
     This room holds at most one other of each trade, and the root at least one.
     """
+    house = trail.house
     root = trail.room_of(crew[0])
-    behind = far_end(trail.house, door, root)
+    behind = far_end(house, door, root)
     steps = trail.steps_to(door, place)
-    letters = letters_ahead(trail.house, trail.standing, door, steps)
-    odd = odd_trades(trail.house, letters + other_letters_in(trail, crew, behind))
-    kept = without_first(trail.house, odd)
+    letters = letters_ahead(house, trail.standing, door, steps)
+    kept = without_first(house, odd_trades(house, letters + other_letters_in(trail, crew, behind)))
     movers = []
-    for trade in trail.house.trades:
+    for trade in house.trades:
         hands = others_in(trail, crew, behind, trade)
         if trade not in kept:
             movers.extend(hands)
@@ -107,10 +107,11 @@ def refill(trail, crew, door, place):
 
 def move_root(trail, crew, door):
     """Lead the crew and all others through the door, but for those that the room must hold."""
+    house = trail.house
     root = trail.room_of(crew[0])
-    kept = without_first(trail.house, odd_trades(trail.house, other_letters_in(trail, crew, root)))
+    kept = without_first(house, odd_trades(house, other_letters_in(trail, crew, root)))
     movers = []
-    for trade in trail.house.trades:
+    for trade in house.trades:
         hands = others_in(trail, crew, root, trade)
         movers.extend(hands[1:] if trade in kept else hands)
     go_exchange(trail, crew, movers, door, 0)
@@ -149,10 +150,12 @@ def canonical_trail(house, standing, room):
 
 def turn_rings(trail, crew, places):
     """Lead all ring doors to their places, from a canonical standing to one for the same root."""
+    house = trail.house
     root = trail.room_of(crew[0])
-    for door, (first, _, _) in enumerate(trail.house.doors):
+    tree = tree_doors(house)
+    for door, (first, _, _) in enumerate(house.doors):
         # The tree doors are at place 0, and stay there.
-        if door not in tree_doors(trail.house) and trail.steps_to(door, places[door]) > 0:
+        if door not in tree and trail.steps_to(door, places[door]) > 0:
             move_root_to(trail, crew, first)
             refill(trail, crew, door, places[door])
     move_root_to(trail, crew, root)

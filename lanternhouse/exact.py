@@ -13,11 +13,8 @@ from lanternhouse.deeds import Run
 from lanternhouse.house import cycles_of
 from lanternhouse.ledgers import unlike_room
 from lanternhouse.pairs import walk_deeds
-from lanternhouse.planner import plan_halves
-from lanternhouse.reach import need_live, need_rooted
-from lanternhouse.requirements import (
-    BLUE, RED, need_a_door, need_like_standings, need_odd, need_tree_or_three_hands,
-)
+from lanternhouse.planner import need_plan_parts, plan_halves
+from lanternhouse.requirements import BLUE, RED, need_a_door, need_like_standings
 from lanternhouse.standing import trades_of
 from lanternhouse.trails import run_of
 from lanternhouse.trees import ring_of, tree_doors
@@ -71,10 +68,7 @@ def need_exact_parts(house, start, end):
     """Check all requirements of an exact plan."""
     need_like_standings(house, start, end)
     need_a_door(house)
-    need_odd(house)
-    need_tree_or_three_hands(house, start)
-    need_live(house, start)
-    need_rooted(house, end)
+    need_plan_parts(house, start, end)
 
 
 def sure_count(house, start, end):

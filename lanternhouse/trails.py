@@ -1,6 +1,7 @@
 """Trails: runs that are put together from pieces, for the other files.
 
-A piece is a pair (name, run). The names are those of the pieces of a plan.
+A piece is a pair (name, run). The names of the pieces of a plan are those that
+the document lists; other names only tell a reader what the run is for.
 """
 
 from lanternhouse.deeds import Run, replay

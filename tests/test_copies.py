@@ -13,6 +13,7 @@ from lanternhouse.house import House
 from lanternhouse.standing import Standing
 
 from support import plain
+from test_form import INTERFACE
 
 DOORS = [[0, 1, "RRB"], [1, 2, "RB"], [2, 0, "RBB"], [2, 3, "RB"]]
 HANDS = [["R", 0], ["B", 3], ["R", 1]]
@@ -223,6 +224,12 @@ def spoil(value):
 
 
 class Answers(unittest.TestCase):
+
+    def test_each_function_of_the_interface_is_tried(self):
+        named = {line.split("(")[0] for lines in INTERFACE.values() for line in lines}
+        tried = {function.__name__ for function, _ in CALLS}
+        # This one is called with its keyword by a function of its own.
+        self.assertEqual({name for name in named if name[0].islower()} - tried, {"winner"})
 
     def test_the_same_answer_after_the_returned_lists_are_changed(self):
         for function, arguments in CALLS:

@@ -21,6 +21,7 @@ from lanternhouse.standing import Standing
 from support import (
     even_house, odd_house, random_house, random_standing, slow_deeds, slow_live, slow_rooted, slow_tree_doors, swift_house,
 )
+from test_form import INTERFACE
 from test_guilds import slow_crew
 
 # The requirements in the order of point 17. The names with a dash are particular to some functions.
@@ -539,7 +540,6 @@ class Interface(unittest.TestCase):
 
     def test_the_whole_interface_is_tried(self):
         """Each function of the interface stands in the table, but for those without requirements."""
-        from test_form import INTERFACE
         free = {
             "longest_cycle", "is_odd", "is_even", "is_strict", "is_tree", "is_swift", "fits", "turned_house", "format_house",
             "format_standing", "format_run", "parse_house", "parse_standing", "parse_run", "join_papers", "meet_papers",
